@@ -156,6 +156,12 @@ class Pieces(unittest.TestCase):
                 self.assertIs(is_name('a' + sign), sign in SMALL + FIGURES + '_')
                 self.assertEqual(piece_at('a' + sign, 0)[1], 2 if sign in SMALL + FIGURES + '_' else 1)
 
+    def test_blanks_and_rows_ends_alone_go_on_a_gap(self):
+        for sign in map(chr, range(256)):
+            with self.subTest(sign):
+                self.assertEqual(piece_at(' ' + sign, 0), ('gap', 2 if sign in ' \n' else 1))
+                self.assertEqual(piece_at('\n' + sign, 0), ('gap', 2 if sign in ' \n' else 1))
+
     def test_a_name_may_stand_right_behind_a_number(self):
         self.assertEqual(cut('10ab'), (('number', '10', 0), ('name', 'ab', 2)))
 
@@ -321,6 +327,9 @@ class Ends(unittest.TestCase):
 
     def test_a_text_that_is_not_the_languages_is_taken_too(self):
         self.assertEqual(without_gaps_at_ends('A? \n'), 'A?\n')
+        for sign in map(chr, range(256)):
+            if sign not in ' \n':
+                self.assertEqual(without_gaps_at_ends('a ' + sign + '  \n' + sign), 'a ' + sign + '\n' + sign + '\n')
 
 
 if __name__ == '__main__':
