@@ -18,10 +18,51 @@ FUNCTIONS = {
         'mapped': '(rows, deed)', 'at_way': '(rows, way)', 'put_at': '(rows, way, steps)',
         'all_ways': '(rows, head=())', 'size': '(tree)',
     },
+    'reads': {
+        'read': '(text)', 'read_worth': '(text)', 'told_worth': '(tree)', 'told_from': '(tree, rank)',
+        'told_plain': '(rows)', 'told_step': '(row)', 'told_block': '(rows)', 'is_text': '(text)',
+    },
+    'runs': {
+        'by_deed': '(deed, one, other)', 'run': '(rows, most=1000)', 'said': '(rows, most=1000)',
+        'says_same': '(one, other, most=1000)', 'steps_used': '(rows, most=1000)', 'value_of': '(tree, names)',
+    },
+    'layouts': {
+        'text': '(word)', 'line': "(flat=' ')", 'in_turn': '(pieces)', 'nest': '(count, piece)', 'group': '(piece)',
+        'groups_in': '(piece)', 'flat_text': '(piece)', 'ways': '(piece, flat=False)', 'laid': '(piece, way)',
+        'lay': '(piece, inward, flat, way)', 'cost': '(words, width)', 'best_way': '(piece, width, start=0)',
+        'spread': '(piece, inward, flat, states, width)', 'marked': '(states, more)',
+        'shifted': '(states, count, width)', 'best': '(piece, width)', 'check_best': '(piece, width, words)',
+    },
+    'shapes': {
+        'worth_piece': '(tree, rank, inward)', 'head_piece': '(step, inward)',
+        'neat_rows': '(rows, width=60, inward=4)', 'neat': '(words, width=60, inward=4)', 'slots_of': '(words)',
+        'may_hold': '(slot, ahead, alone, table)', 'is_neat': '(words, width=60, inward=4)',
+    },
 }
 CLASSES = {
     'errors': ('NeatFault', 'BadSign', 'BadTree', 'BadLayout', 'BadRun', 'BadChange', 'BadPaper', 'BadSize',
                'BadStore', 'NoSuch'),
+    'reads': ('Reader',), 'runs': ('Run',), 'shapes': ('Shaper', 'Slots'),
+}
+# The methods of each class with their arguments; the first is what an object is made of.
+METHODS = {
+    ('reads', 'Reader'): {
+        '__init__': '(self, words)', 'peek': '(self)', 'kind': '(self)', 'take': '(self, word)', 'name': '(self)',
+        'read_block': '(self)', 'read_step': '(self)', 'step_itself': '(self)', 'follow': '(self)',
+        'params': '(self)', 'worth': '(self, rank)', 'single': '(self)',
+    },
+    ('runs', 'Run'): {
+        '__init__': '(self, rows, most=1000)', 'spend': '(self)', 'carry': '(self, rows, names)',
+        'branch': '(self, row, names)', 'worth': '(self, tree, names)', 'call': '(self, tree, names)',
+    },
+    ('shapes', 'Shaper'): {
+        '__init__': '(self, width, inward, remarks)', 'put': '(self, words, deep)', 'notes': '(self, slot, deep)',
+        'head': '(self, piece, deep)', 'put_steps': '(self, steps, deep)', 'one': '(self, step, deep, ahead)',
+        'is_chained': '(self, steps)', 'inside': '(self, steps, deep)',
+    },
+    ('shapes', 'Slots'): {
+        '__init__': '(self, rows, reader)', 'slot_steps': '(self, rows)', 'inside': '(self, rows)',
+    },
 }
 CONSTANTS = {
     'signs': {
@@ -30,6 +71,8 @@ CONSTANTS = {
         'MARKS': ('==', '=', '<', '+', '-', '*', '(', ')', '{', '}', ',', ';'),
     },
     'trees': {'DEEDS': ('==', '<', '+', '-', '*')},
+    'reads': {'RANK': {'==': 1, '<': 1, '+': 2, '-': 2, '*': 3}},
+    'runs': {'MOST': 10 ** 30},
 }
 
 
@@ -51,6 +94,13 @@ class Interface(unittest.TestCase):
                 for name in names:
                     with self.subTest(file=file, name=name):
                         self.assertEqual(getattr(module_of(file), name).__module__, 'neatwright.' + file)
+
+    def test_methods_are_defined_in_their_class_with_the_listed_arguments(self):
+        for (file, name), methods in METHODS.items():
+            for method, arguments in methods.items():
+                with self.subTest(file=file, name=name, method=method):
+                    found = vars(getattr(module_of(file), name))[method]
+                    self.assertEqual(str(inspect.signature(found)), arguments)
 
     def test_constants_are_as_written(self):
         for file, constants in CONSTANTS.items():
