@@ -154,6 +154,23 @@ def with_inner(tree, worths):
     return tree
 
 
+def rebuilt(tree, deed):
+    """Return a worth put together again, each worth in it, those within it first, as a function makes it."""
+    done = []
+    # Each worth comes up twice: ahead of those within it, and behind them, when they stand last in what is done.
+    waiting = [(tree, False)]
+    while waiting != []:
+        one, ready = waiting.pop()
+        inner = inner_worths(one)
+        if ready:
+            start = len(done) - len(inner)
+            done[start:] = [deed(with_inner(one, done[start:]))]
+        else:
+            waiting.append((one, True))
+            waiting.extend([(part, False) for part in inner[::-1]])
+    return done[0]
+
+
 def all_worths(tree):
     """Return a worth and all within it, each ahead of those within it."""
     found = []

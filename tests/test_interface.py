@@ -38,6 +38,25 @@ FUNCTIONS = {
         'neat_rows': '(rows, width=60, inward=4)', 'neat': '(words, width=60, inward=4)', 'slots_of': '(words)',
         'may_hold': '(slot, ahead, alone, table)', 'is_neat': '(words, width=60, inward=4)',
     },
+    'scopes': {
+        'defs_of': '(rows)', 'scope_rows': '(rows, scope)', 'params_of': '(rows, scope)', 'scopes_of': '(rows)',
+        'sets_in': '(rows)', 'reads_in': '(rows)', 'names_of': '(rows, scope)', 'counts_of': '(rows, scope)',
+        'calls_of': '(rows, scope)', 'reached': '(rows, scope)', 'rings': '(rows)', 'unmade': '(rows)',
+        'fresh_name': '(rows, scope, base)',
+    },
+    'renames': {
+        'renamed': '(rows, scope, old, new)', 'in_steps': '(rows, old, new)', 'set_otherwise': '(row, old, new)',
+        'in_worth': '(tree, old, new)', 'renamed_def': '(rows, old, new)', 'call_otherwise': '(tree, old, new)',
+        'all_calls': '(rows)', 'mark_calls': '(tree, found)', 'params_moved': '(rows, name, order)',
+        'call_moved': '(tree, name, order)', 'is_quiet': '(tree)', 'all_renames': '(rows, scope)',
+    },
+    'moves': {
+        'scope_of': '(rows, way)', 'worth_at': '(tree, path)', 'put_worth': '(tree, path, new)',
+        'taken_out': '(rows, way, path, name)', 'put_in': '(rows, scope, name)',
+        'read_steps': '(steps, name, worth)', 'is_sure': '(tree)', 'surely_set': '(rows, scope, place)',
+        'read_otherwise': '(tree, name, worth)', 'turned_if': '(rows, way)', 'turned_test': '(tree)',
+        'is_test': '(tree)', 'exchanged': '(rows, way)', 'all_small': '(tree)', 'blocks_below': '(rows, way)',
+    },
 }
 CLASSES = {
     'errors': ('NeatFault', 'BadSign', 'BadTree', 'BadLayout', 'BadRun', 'BadChange', 'BadPaper', 'BadSize',
