@@ -87,7 +87,7 @@ class Reader:
     def _block(self):
         self.take('{')
         number, start = len(self.blocks), self.place
-        # A block's place in the row is ahead of the blocks within it, so it's held open till the end is known.
+        # A block stands ahead of those within it, so it is marked at its beginning, and its end when it is come to.
         self.blocks.append((start, start))
         steps = []
         while self.peek() != '}':

@@ -59,29 +59,28 @@ class Run:
 
     def worth(self, tree, names):
         """Return a worth's number over a table of names, the left ones first; BadRun."""
+        deeds = []
+        first = tree
+        # Chains stand to the left in a tree, and may be long: they are gone down in a loop.
+        while first[0] == 'op':
+            deeds.append(first)
+            first = first[2]
+        found = self.single(first, names)
+        for deed in deeds[::-1]:
+            found = by_deed(deed[1], found, self.worth(deed[3], names))
+        return found
+
+    def single(self, tree, names):
+        """Return the number of a worth that is no deed of two; BadRun."""
         if tree[0] == 'num':
             return tree[1]
-        if tree[0] == 'name':
-            if tree[1] not in names:
-                raise BadRun(f'{tree[1]} is not set')
-            return names[tree[1]]
         if tree[0] == 'neg':
             return -self.worth(tree[1], names)
         if tree[0] == 'call':
             return self.call(tree, names)
-        return self.chain(tree, names)
-
-    def chain(self, tree, names):
-        """Return the number of a deed and of those on its left, which may be many: in a loop; BadRun."""
-        deeds = []
-        first = tree
-        while first[0] == 'op':
-            deeds.append(first)
-            first = first[2]
-        found = self.worth(first, names)
-        for deed in deeds[::-1]:
-            found = by_deed(deed[1], found, self.worth(deed[3], names))
-        return found
+        if tree[1] not in names:
+            raise BadRun(f'{tree[1]} is not set')
+        return names[tree[1]]
 
     def call(self, tree, names):
         """Return what a call gives, nought for nothing: the inner names are its own; BadRun, forty deep at most."""
