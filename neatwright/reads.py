@@ -277,7 +277,7 @@ def is_if_alone(rows):
 
 def told_block(rows):
     """Return the text of steps in braces in one row."""
-    return f'{{ {told_plain(rows)} }}' if len(rows) > 0 else '{ }'
+    return '{ ' + told_plain(rows) + ' }' if len(rows) > 0 else '{ }'
 
 
 def is_text(text):
