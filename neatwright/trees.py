@@ -261,3 +261,20 @@ def all_ways(rows, head=()):
 def size(tree):
     """Return how many worths a worth has, itself too."""
     return len(all_worths(tree))
+
+
+def same_worth(one, other):
+    """Tell whether two worths are the same."""
+    # Python goes one call deeper for each row within a row that it compares; a long chain of deeds is too deep for it.
+    waiting = [(one, other)]
+    while waiting != []:
+        mine, its = waiting.pop()
+        if head_of(mine) != head_of(its):
+            return False
+        waiting.extend(list(zip(inner_worths(mine), inner_worths(its))))
+    return True
+
+
+def head_of(tree):
+    """Return what a worth is but for the worths within it, and how many they are."""
+    return (with_inner(tree, ()), len(inner_worths(tree)))

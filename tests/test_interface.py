@@ -57,11 +57,32 @@ FUNCTIONS = {
         'read_otherwise': '(tree, name, worth)', 'turned_if': '(rows, way)', 'turned_test': '(tree)',
         'is_test': '(tree)', 'exchanged': '(rows, way)', 'all_small': '(tree)', 'blocks_below': '(rows, way)',
     },
+    'folds': {
+        'folded_worth': '(tree)', 'is_number': '(tree)', 'number_of': '(tree)', 'number_tree': '(value)',
+        'step_fold': '(rows, way)', 'is_free': '(tree)', 'behind_give': '(rows)', 'ends': '(step)',
+        'next_fold': '(rows)', 'folded': '(rows)', 'check_folds': '(rows, reasons)', 'is_folded': '(rows)',
+    },
+    'flows': {
+        'unsure_reads': '(rows, scope)', 'surely_set_behind': '(rows, scope)', 'read_behind': '(rows, names)',
+        'read_ahead_of': '(row, behind)', 'idle_sets': '(rows, scope)', 'idle_in': '(rows, behind, head, found)',
+        'unreached': '(rows)', 'all_paths': '(rows, rounds)', 'step_paths': '(row, rounds)',
+    },
+    'lints': {
+        'lints': '(rows)', 'place_key': '(place)', 'unread_params': '(rows, scope)', 'step_slips': '(rows, step)',
+        'counts': '(rows)', 'without_uncalled': '(rows)', 'is_clean': '(rows)', 'callers': '(rows, name)',
+    },
+    'diffs': {
+        'common_table': '(one, other)', 'diff': '(one, other)', 'changes': '(steps)', 'done': '(rows, steps)',
+        'undone': '(steps)', 'hunks': '(steps, near)', 'done_hunks': '(rows, lots)', 'told': '(steps)',
+        'read_steps_told': '(rows)', 'merged': '(base, one, other)', 'kept_by_both': '(base, one, other)',
+        'kept_places': '(base, rows)',
+    },
 }
 CLASSES = {
     'errors': ('NeatFault', 'BadSign', 'BadTree', 'BadLayout', 'BadRun', 'BadChange', 'BadPaper', 'BadSize',
                'BadStore', 'NoSuch'),
     'reads': ('Reader',), 'runs': ('Run',), 'shapes': ('Shaper', 'Slots'),
+    'flows': ('Flow',),
 }
 # The methods of each class with their arguments; the first is what an object is made of.
 METHODS = {
@@ -82,6 +103,10 @@ METHODS = {
     ('shapes', 'Slots'): {
         '__init__': '(self, rows, reader)', 'slot_steps': '(self, rows)', 'inside': '(self, rows)',
     },
+    ('flows', 'Flow'): {
+        '__init__': '(self, rows, names)', 'go': '(self, rows, names, head)', 'reads': '(self, row, names, way)',
+        'behind_step': '(self, row, names, way)',
+    },
 }
 CONSTANTS = {
     'signs': {
@@ -92,6 +117,8 @@ CONSTANTS = {
     'trees': {'DEEDS': ('==', '<', '+', '-', '*')},
     'reads': {'RANK': {'==': 1, '<': 1, '+': 2, '-': 2, '*': 3}},
     'runs': {'MOST': 10 ** 30},
+    'lints': {'KINDS': ('unset', 'idle', 'unread', 'uncalled', 'no def', 'count', 'fixed test', 'same', 'unreached',
+                        'self')},
 }
 
 
