@@ -77,12 +77,31 @@ FUNCTIONS = {
         'read_steps_told': '(rows)', 'merged': '(base, one, other)', 'kept_by_both': '(base, one, other)',
         'kept_places': '(base, rows)',
     },
+    'edits': {
+        'check_edits': '(text, edits)', 'applied': '(text, edits)', 'backward': '(text, edits)',
+        'place_behind': '(text, edits, place)', 'smallest': '(one, other)', 'both': '(text, one, other)',
+        'behind_each_other': '(text, one, other)', 'word_edits': '(old, new, cut)', 'size_behind': '(text, edits)',
+    },
+    'matches': {
+        'matched': '(pattern, tree, holes)', 'fit': '(pattern, tree, holes, found)', 'filled': '(pattern, table)',
+        'check_rule': '(pattern, result, holes)', 'by_rule': '(tree, pattern, result, holes)',
+        'changed': '(tree, pattern, result, holes)', 'program_by_rule': '(rows, pattern, result, holes)',
+        'places_in': '(tree, pattern, holes)', 'holds': '(pattern, result, holes, numbers)',
+        'tables_of': '(names, numbers)', 'worth_or_none': '(tree, table)', 'to_end': '(tree, rules, most)',
+        'lessens': '(pattern, result, holes)', 'often': '(tree, name)', 'all_matches': '(rows, pattern, holes)',
+    },
+    'measures': {
+        'depth': '(rows)', 'branches': '(rows)', 'weight': '(rows)', 'kinds': '(rows)', 'deeds': '(rows)',
+        'twice': '(rows, least)', 'runs_twice': '(rows, count)', 'all_lots': '(rows)', 'widest': '(rows)',
+        'scope_measures': '(rows, scope)', 'row_widths': '(text)',
+    },
+    'desks': {'figure_of': '(text)', 'lines_of': '(text)', 'done_again': '(text)'},
 }
 CLASSES = {
     'errors': ('NeatFault', 'BadSign', 'BadTree', 'BadLayout', 'BadRun', 'BadChange', 'BadPaper', 'BadSize',
                'BadStore', 'NoSuch'),
     'reads': ('Reader',), 'runs': ('Run',), 'shapes': ('Shaper', 'Slots'),
-    'flows': ('Flow',),
+    'flows': ('Flow',), 'desks': ('Desk',),
 }
 # The methods of each class with their arguments; the first is what an object is made of.
 METHODS = {
@@ -107,6 +126,10 @@ METHODS = {
         '__init__': '(self, rows, names)', 'go': '(self, rows, names, head)', 'reads': '(self, row, names, way)',
         'behind_step': '(self, row, names, way)',
     },
+    ('desks', 'Desk'): {
+        '__init__': '(self)', 'say': '(self, line)', 'do': '(self, line)', 'scope': '(self, word)',
+        'let': '(self, program, line)', 'answer': '(self, head, rest)',
+    },
 }
 CONSTANTS = {
     'signs': {
@@ -119,6 +142,7 @@ CONSTANTS = {
     'runs': {'MOST': 10 ** 30},
     'lints': {'KINDS': ('unset', 'idle', 'unread', 'uncalled', 'no def', 'count', 'fixed test', 'same', 'unreached',
                         'self')},
+    'desks': {'BASE': 9973, 'WIDE': 2000003},
 }
 
 
