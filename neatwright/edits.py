@@ -63,7 +63,7 @@ def place_behind(text, edits, place):
     for start, end, word in check_edits(text, edits):
         if start < place < end:
             return start + grown + len(word)
-        if end <= place and (start < place or start == end):
+        if end <= place:
             grown += growth((start, end, word))
     return place + grown
 

@@ -81,6 +81,8 @@ class Answers(unittest.TestCase):
     def test_answers(self):
         desk = desk_of('add ' + PROGRAM)
         before = state(desk)
+        for width in ('1', '9', '10', '100', '999'):
+            self.assertEqual(desk.say('neat ' + width), neat_rows(desk.program, int(width)).replace('\n', '/'))
         for line, answer in (
                 ('show', PROGRAM), ('run', '5'), ('lint', ''), ('scopes', '- f'), ('names -', 'a b'), ('names f', 'x y'),
                 ('neat 99', 'def f(x) {/    y = x + 1;/    give y;/}/a = 2;/b = f(a) + a;/say b;/'),

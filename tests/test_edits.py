@@ -225,6 +225,7 @@ class Words(unittest.TestCase):
         self.assertEqual(word_edits('ab\ncd\nef', 'ab\nxy\nef!', lambda text: text.split('\n')),
                          ((3, 5, 'xy'), (6, 8, 'ef!')))
         self.assertEqual(word_edits('abc', 'xbz', list), ((0, 1, 'x'), (2, 3, 'z')))
+        self.assertEqual(word_edits('aba', 'xby', list), ((0, 1, 'x'), (2, 3, 'y')))
 
     def test_made_texts(self):
         by_pieces = 0

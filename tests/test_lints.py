@@ -172,7 +172,8 @@ class Places(unittest.TestCase):
 
     def test_by_what_places_stand_in_order(self):
         for place, key in (((0,), ((0,), '')), ((0, 1, 2), ((0, 1, 2), '')), ((0, 1, 2, 'a'), ((0, 1, 2), 'a')),
-                           ('x', ((), 'x')), ((3, 'b'), ((3,), 'b'))):
+                           ('x', ((), 'x')), ((3, 'b'), ((3,), 'b')),
+                           ((), ((), '')), ([1, 0, 2], ((1, 0, 2), '')), ([1, 'a'], ((1,), 'a'))):
             self.assertEqual(place_key(place), key)
         places = ['a', 'b', (0,), (0, 'a'), (0, 'b'), (0, 0, 0), (0, 0, 0, 'a'), (0, 1, 0), (1,), (10,), (10, 'a')]
         self.assertEqual(sorted(places[::-1], key=place_key), places)
