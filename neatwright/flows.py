@@ -125,8 +125,14 @@ def idle_sets(rows, scope):
     steps = scope_rows(rows, scope)
     found = []
     idle_in(steps, {}, (), found)
-    lost = unreached(steps)
-    return tuple([way for way in found if way not in lost])
+    lost = {way: True for way in unreached(steps)}
+    return tuple([way for way in found if not is_within(way, lost)])
+
+
+def is_within(way, ways):
+    """Tell whether a step, or one that it stands in, is at one of a table of ways."""
+    # A way's heads of odd lengths are those of the steps about it.
+    return any([way[:length] in ways for length in range(1, len(way) + 1, 2)])
 
 
 def idle_in(rows, behind, head, found):
@@ -148,20 +154,20 @@ def idle_in(rows, behind, head, found):
 def unreached(rows):
     """Return the ways of steps that stand behind ones that surely give, in order."""
     found = []
-    unreached_in(rows, (), False, found)
+    unreached_in(rows, (), found)
     return found
 
 
-def unreached_in(rows, head, past, found):
-    """Put in found, a list, the ways of steps that can't be come to: all, where what they stand in can't."""
-    gone = past
+def unreached_in(rows, head, found):
+    """Put in found, a list, the ways of steps that stand behind one of their own row that surely gives."""
+    past = False
     for place, row in enumerate(rows):
         way = head + (place,)
-        if gone:
+        if past:
             found.append(way)
         for block, lot in enumerate(blocks_of(row)):
-            unreached_in(lot, way + (block,), gone, found)
-        gone = gone or ends(row)
+            unreached_in(lot, way + (block,), found)
+        past = past or ends(row)
 
 
 def all_paths(rows, rounds):

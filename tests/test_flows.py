@@ -99,6 +99,22 @@ def idle(paths, behind=()):
     return sorted(come_to - needed)
 
 
+def come_to(paths):
+    """Return the ways of the steps that are on some way."""
+    return {way for path in paths for mark, way, _ in path if mark == 'at'}
+
+
+def gone_past(rows, head=()):
+    """Return the ways of steps that no way through the row of steps they stand in goes by, for each row by itself."""
+    own = [(*head, place) for place in range(len(rows))]
+    seen = come_to(go(rows, 0, head))
+    found = [way for way in own if way not in seen]
+    for way, row in zip(own, rows):
+        for block, lot in enumerate([part for part in row[2:] if row[0] in ('if', 'while')]):
+            found += gone_past(lot, (*way, block))
+    return found
+
+
 def live(paths, behind):
     """Return the names that are read on some way from its beginning on."""
     found = set()
@@ -211,8 +227,8 @@ class Read(unittest.TestCase):
             for names in ((), ('b', 'c')):
                 found = []
                 idle_in(rows, {name: True for name in names}, (5, 1), found)
-                lost = unreached(rows)
-                self.assertEqual([way for way in found if way[2:] not in lost],
+                seen = come_to(paths)
+                self.assertEqual([way for way in found if way[2:] in seen],
                                  [(5, 1, *way) for way in idle(paths, names)])
         self.assertGreater(some, 200)
 
@@ -231,6 +247,9 @@ class Read(unittest.TestCase):
         # What can't be come to is no idle set, and what is given is no longer read behind.
         rows = read('def f(x) { a = 1; b = 2; if x { give a; c = 3; } else { give 1; } say b; d = 4; if x { e = 1; } }')
         self.assertEqual(idle_sets(rows, 'f'), ((1,),))
+        rows = read('def f(x) { a = 1; if x { give x; b = 2; } give a; if x { while x { c = 3; } d = 4; give 1; } '
+                    'while x { if x { } else if x { e = 5; } } }')
+        self.assertEqual(idle_sets(rows, 'f'), ())
         self.assertEqual(read_behind(read('a = b; say a + c;'), ['a', 'd', 'b']), ('b', 'c', 'd'))
         self.assertEqual(read_behind((), ('b', 'a', 'b')), ('a', 'b'))
 
@@ -244,21 +263,40 @@ class Read(unittest.TestCase):
 
 class Reached(unittest.TestCase):
 
-    def test_what_cannot_be_come_to(self):
+    def test_what_stands_behind_a_give(self):
         some = 0
         for rows, paths in LOTS:
-            seen = {way for path in paths for mark, way, _ in path if mark == 'at'}
             found = unreached(rows)
-            self.assertEqual(found, [way for way in all_ways(rows) if way not in seen])
+            self.assertEqual(found, sorted(gone_past(rows)))
+            self.assertIsInstance(found, list)
+            self.assertTrue(tuples_throughout(tuple(found)))
             some += len(found)
         self.assertGreater(some, 100)
+
+    def test_what_is_not_come_to_stands_behind_a_give_or_within_such(self):
+        within = 0
+        for rows, paths in LOTS:
+            seen, found = come_to(paths), unreached(rows)
+            for way in all_ways(rows):
+                about = [way[:length] for length in range(1, len(way) + 1, 2)]
+                self.assertIs(way not in seen, any(one in found for one in about))
+                within += way not in seen and way not in found
+        self.assertGreater(within, 40)
 
     def test_by_hand(self):
         for body, ways in (
                 ('', []), ('give 1;', []), ('give 1; say 1; say 2;', [(1,), (2,)]),
                 ('if a { give 1; say 1; } say 2;', [(0, 0, 1)]),
                 ('if a { give 1; } else { give 2; } say 2;', [(1,)]),
-                ('give 1; if a { say 1; } else { say 2; }', [(1,), (1, 0, 0), (1, 1, 0)]),
+                # What stands first in a block stands behind nothing, also where its block isn't come to.
+                ('give 1; if a { say 1; } else { say 2; }', [(1,)]),
+                ('give 1; say 1; if 1 { give 1; say 1; }', [(1,), (2,), (2, 0, 1)]),
+                ('give 1; if a { say 1; say 2; } else { give 2; say 3; say 4; } say 5;',
+                 [(1,), (1, 1, 1), (1, 1, 2), (2,)]),
+                ('give 1; while a { if a { give 2; } else { give 3; } if a { say 1; } else { say 2; give 1; say 3; } }',
+                 [(1,), (1, 0, 1), (1, 0, 1, 1, 2)]),
+                ('if a { while a { give 1; say 1; } say 2; } else { give 2; if a { say 3; } }',
+                 [(0, 0, 0, 0, 1), (0, 1, 1)]),
                 ('while 1 { give 1; give 2; } say 1;', [(0, 0, 1)])):
             with self.subTest(body=body):
                 self.assertEqual(unreached(read('def f(a) { ' + body + ' }')[0][3]), ways)

@@ -104,7 +104,9 @@ class Slips(unittest.TestCase):
                 ('def f() { } say f() - f();', []), ('def f() { } say f() == f();', []),
                 ('def f() { } say -f() == -f();', [('same', '', (0,))]), ('say 1 == -1;', []),
                 ('def f() { give 1; say 2; if 2 < 3 { say 3; } } say f();',
-                 [('unreached', 'f', (1,)), ('unreached', 'f', (2,)), ('unreached', 'f', (2, 0, 0))]),
+                 [('unreached', 'f', (1,)), ('unreached', 'f', (2,))]),
+                ('def f(x) { if x { give 1; say 2; } give 3; while x { a = 4; give 5; b = 6; } } say f(1);',
+                 [('unreached', 'f', (0, 0, 1)), ('unreached', 'f', (2,)), ('unreached', 'f', (2, 0, 2))]),
                 ('a = 1; if a { a = a; } say a;', [('self', '', (1, 0, 0))]),
                 ('a = -a;', [('unset', '', (0, 'a')), ('idle', '', (0,))])):
             with self.subTest(text=text):
