@@ -1,7 +1,7 @@
 """Runs: programs carried out, numbers whole, names unset refused, so many steps at most."""
 
 from neatwright.errors import BadRun, BadSize
-from neatwright.trees import check_program
+from neatwright.trees import check_program, inner_worths
 
 MOST = 10 ** 30
 # How many calls may be carried out one within another.
@@ -29,76 +29,99 @@ class Run:
 
     def carry(self, rows, names):
         """Carry out steps over a table of names; tell what was given, None for nothing; BadRun."""
-        for row in rows:
+        return self.go_on(list(rows[::-1]), names)
+
+    def branch(self, row, names):
+        """Carry out an if or a while; tell what was given, None for nothing; BadRun."""
+        return self.go_on(self.chosen(row, names), names)
+
+    def go_on(self, ahead, names):
+        """Carry out what is ahead, a list, the last first; tell what was given, None for nothing; BadRun."""
+        # What a block holds is put ahead, so blocks one in another need no calls of this one in another.
+        while ahead != []:
+            row = ahead.pop()
+            if row[0] == 'again':
+                ahead.extend(self.chosen(row[1], names))
+                continue
             self.spend()
-            given = None
+            if row[0] == 'give':
+                return self.worth(row[1], names)
             if row[0] == 'set':
                 names[row[1]] = self.worth(row[2], names)
             elif row[0] == 'say':
                 self.said.append(self.worth(row[1], names))
-            elif row[0] == 'give':
-                given = self.worth(row[1], names)
             elif row[0] == 'def':
                 self.defs[row[1]] = row
             else:
-                given = self.branch(row, names)
-            if given is not None:
-                return given
+                ahead.extend(self.chosen(row, names))
         return None
 
-    def branch(self, row, names):
-        """Carry out an if or a while; tell what was given, None for nothing; BadRun."""
+    def chosen(self, row, names):
+        """Return what an if's or a while's test puts ahead, the last first, ("again", while) behind a round; BadRun."""
+        holds = self.worth(row[1], names) != 0
         if row[0] == 'if':
-            return self.carry(row[2] if self.worth(row[1], names) != 0 else row[3], names)
-        while self.worth(row[1], names) != 0:
-            self.spend()
-            given = self.carry(row[2], names)
-            if given is not None:
-                return given
-        return None
+            return list((row[2] if holds else row[3])[::-1])
+        if not holds:
+            return []
+        self.spend()
+        return [('again', row)] + list(row[2][::-1])
 
     def worth(self, tree, names):
         """Return a worth's number over a table of names, the left ones first; BadRun."""
-        deeds = []
-        first = tree
-        # Chains stand to the left in a tree, and may be long: they are gone down in a loop.
-        while first[0] == 'op':
-            deeds.append(first)
-            first = first[2]
-        found = self.single(first, names)
-        for deed in deeds[::-1]:
-            found = by_deed(deed[1], found, self.worth(deed[3], names))
-        return found
+        # Worths one in another may be deep, and calls are deep besides: so what is ahead stands in a list here, too.
+        numbers = []
+        ahead = [tree]
+        while ahead != []:
+            one = ahead.pop()
+            if one[0] == 'num':
+                numbers.append(one[1])
+            elif one[0] == 'name':
+                numbers.append(value_in(one[1], names))
+            elif one[0] == 'inner done':
+                start = len(numbers) - len(inner_worths(one[1]))
+                numbers[start:] = [self.made(one[1], numbers[start:])]
+            else:
+                if one[0] == 'call':
+                    self.begin_call(one)
+                ahead.append(('inner done', one))
+                ahead.extend(inner_worths(one)[::-1])
+        return numbers[0]
 
-    def single(self, tree, names):
-        """Return the number of a worth that is no deed of two; BadRun."""
-        if tree[0] == 'num':
-            return tree[1]
+    def made(self, tree, numbers):
+        """Return what a deed, a neg or a begun call makes of the numbers of the worths within it; BadRun."""
+        if tree[0] == 'op':
+            return by_deed(tree[1], numbers[0], numbers[1])
         if tree[0] == 'neg':
-            return -self.worth(tree[1], names)
-        if tree[0] == 'call':
-            return self.call(tree, names)
-        if tree[1] not in names:
-            raise BadRun(f'{tree[1]} is not set')
-        return names[tree[1]]
+            return -numbers[0]
+        row = self.defs[tree[1]]
+        if len(numbers) != len(row[2]):
+            raise BadRun(f'{tree[1]} is called with another count of worths')
+        self.deep += 1
+        try:
+            given = self.carry(row[3], dict(zip(row[2], numbers)))
+        finally:
+            self.deep -= 1
+        return 0 if given is None else given
 
-    def call(self, tree, names):
-        """Return what a call gives, nought for nothing: the inner names are its own; BadRun, forty deep at most."""
+    def begin_call(self, tree):
+        """Use up a call's step, ahead of its worths; BadRun past forty deep, for no def and for no steps left."""
         if self.deep == DEEPEST:
             raise BadRun('calls more than forty deep')
         if tree[1] not in self.defs:
             raise BadRun(f'{tree[1]} is no def')
-        row = self.defs[tree[1]]
         self.spend()
-        values = [self.worth(worth, names) for worth in tree[2]]
-        if len(values) != len(row[2]):
-            raise BadRun(f'{tree[1]} is called with another count of worths')
-        self.deep += 1
-        try:
-            given = self.carry(row[3], dict(zip(row[2], values)))
-        finally:
-            self.deep -= 1
-        return 0 if given is None else given
+
+    def call(self, tree, names):
+        """Return what a call gives, nought for nothing: the inner names are its own; BadRun, forty deep at most."""
+        # The worths within it may be calls again, as deep as it goes: so it is worked out as all worths are.
+        return self.worth(tree, names)
+
+
+def value_in(name, names):
+    """Return a name's number in a table; BadRun."""
+    if name not in names:
+        raise BadRun(f'{name} is not set')
+    return names[name]
 
 
 def by_deed(deed, one, other):

@@ -75,6 +75,28 @@ def deep_calls(count):
     return read('def f(n) { if n == 1 { give 7; } give f(n - 1); } say f(' + str(count) + ');')
 
 
+# Texts of a call's worth, or of the steps that give it, with as many things one in another as asked for.
+NESTS = (
+    ('blocks', lambda many: 'if n { ' * many + 'give 1 + f(n - 1);' + ' }' * many),
+    ('elses', lambda many: ''.join(f'if n == -{link} {{ }} else ' for link in range(1, many + 1))
+     + '{ give 1 + f(n - 1); }'),
+    ('bare rows ahead', lambda many: 'if 1 - n * 0 { } else { ' * many + ' }' * many + ' give 1 + f(n - 1);'),
+    ('rounds', lambda many: 'while n { ' * many + 'give 1 + f(n - 1);' + ' }' * many),
+    ('brackets', lambda many: 'give 1 + ' + '(0 + ' * many + 'f(n - 1)' + ')' * many + ';'),
+    ('negs', lambda many: 'give 1 + ' + '--' * many + 'f(n - 1);'),
+    ('deeds', lambda many: 'give 1 + f(n - 1)' + ' + 0' * many + ';'),
+    ('calls', lambda many: 'give 1 + ' + 'g(' * many + 'f(n - 1)' + ')' * many + ';'),
+    ('tests', lambda many: 'if ' + '0 - (' * 2 * many + 'f(n - 1)' + ')' * 2 * many + ' { } give n;'),
+    ('all', lambda many: 'while n { if n { ' * many + 'give 1 + ' + '-(0 - g(' * many + 'f(n - 1)' + '))' * many + ';'
+     + ' } }' * many),
+)
+
+
+def nested(steps, calls):
+    """Return a program whose def does some steps where its param is not nought, and that says what it gives."""
+    return read(f'def g(x) {{ give x; }} def f(n) {{ if n == 0 {{ give 0; }} {steps} }} say f({calls}); say 8;')
+
+
 class Runs(unittest.TestCase):
 
     def test_programs_that_go_on(self):
@@ -140,6 +162,40 @@ class Runs(unittest.TestCase):
         self.assertEqual(said(read('def f(x) { give x; } say ' + nested + ';')), ((1,), False))
         two = read('def f(n) { if n == 0 { give 0; } give g(n - 1); } def g(n) { give f(n); } say f(19); say f(20);')
         self.assertEqual(said(two), ((0,), True))
+
+    def test_forty_deep_however_much_stands_one_in_another(self):
+        for kind, steps in NESTS:
+            for many in (1, 10, 30, 60):
+                with self.subTest(kind=kind, many=many):
+                    program = nested(steps(many), 39)
+                    self.assertEqual(said(program, 100000), ((39, 8), False))
+                    self.assertEqual(run(program, 100000), ((39, 8), {}))
+                    used = steps_used(program, 100000)
+                    self.assertEqual(said(program, used), ((39, 8), False))
+                    self.assertEqual(said(program, used - 1), ((39,), True))
+                    for calls in (40, 41, 100):
+                        self.assertEqual(said(nested(steps(many), calls), 100000), ((), True))
+                        with self.assertRaises(BadRun):
+                            run(nested(steps(many), calls), 100000)
+
+    def test_deep_ones_as_the_test_carries_them_out(self):
+        for kind, steps in NESTS:
+            for many in (1, 2, 5):
+                for calls in (0, 1, 6):
+                    program = nested(steps(many), calls)
+                    for most in (0, 9, 20, 50, 77, 100, 1000):
+                        with self.subTest(kind=kind, many=many, calls=calls, most=most):
+                            numbers, stopped, _, used = carried_out(program, most)
+                            self.assertEqual(said(program, most), (numbers, stopped))
+                            if not stopped:
+                                self.assertEqual(steps_used(program, most), used)
+
+    def test_rounds_and_calls_one_in_another(self):
+        steps = 'while n - 3 { n = n - 1; m = 2; while m { m = m - 1; if m { say n; } } if n == 3 { give f(n); } } '
+        program = read('def f(n) { ' + steps + ' say 50; } say f(6);')
+        numbers, stopped, _, used = carried_out(program)
+        self.assertEqual((numbers, stopped), ((5, 4, 3, 50, 0), False))
+        self.assertEqual((said(program), steps_used(program)), ((numbers, stopped), used))
 
     def test_numbers_at_thirty_figures(self):
         greatest = 10 ** 30 - 1
