@@ -122,17 +122,9 @@ def read_ahead_of(row, behind):
 
 def idle_sets(rows, scope):
     """Return the ways, in the scope's steps, of sets come to whose worth is read on no way, in order; NoSuch."""
-    steps = scope_rows(rows, scope)
     found = []
-    idle_in(steps, {}, (), found)
-    lost = {way: True for way in unreached(steps)}
-    return tuple([way for way in found if not is_within(way, lost)])
-
-
-def is_within(way, ways):
-    """Tell whether a step, or one that it stands in, is at one of a table of ways."""
-    # A way's heads of odd lengths are those of the steps about it.
-    return any([way[:length] in ways for length in range(1, len(way) + 1, 2)])
+    idle_in(scope_rows(rows, scope), {}, (), found)
+    return tuple(found)
 
 
 def idle_in(rows, behind, head, found):
@@ -149,6 +141,9 @@ def idle_in(rows, behind, head, found):
         if row[0] == 'while':
             # Behind a round comes the while's test again, and all that may be read from there on.
             idle_in(row[2], between[place], way + (0,), found)
+        # What stands behind, and all within it, is on no way: no set there is come to.
+        if ends(row):
+            return
 
 
 def unreached(rows):

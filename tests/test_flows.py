@@ -227,10 +227,42 @@ class Read(unittest.TestCase):
             for names in ((), ('b', 'c')):
                 found = []
                 idle_in(rows, {name: True for name in names}, (5, 1), found)
-                seen = come_to(paths)
-                self.assertEqual([way for way in found if way[2:] in seen],
-                                 [(5, 1, *way) for way in idle(paths, names)])
+                self.assertEqual(found, [(5, 1, *way) for way in idle(paths, names)])
         self.assertGreater(some, 200)
+
+    def test_sets_that_are_not_come_to(self):
+        lost = 0
+        for rows, paths in LOTS:
+            seen = come_to(paths)
+            found = []
+            idle_in(rows, {}, (), found)
+            self.assertTrue(set(found) <= seen)
+            lost += len([way for way in all_ways(rows) if way not in seen and at_way(rows, way)[0] == 'set'])
+        self.assertGreater(lost, 40)
+        for body, behind, ways in (
+                ('give 1; c = 2;', (), []), ('c = 1; give 1; c = 2;', (), [(0,)]), ('c = 1; give 1; c = 2;', 'c', [(0,)]),
+                ('give 1; if 1 { a = 1; } else { b = 1; } c = 1;', (), []),
+                ('give 1; while 1 { while 1 { a = 1; } b = 1; }', (), []),
+                ('if 1 { give 1; } else { give 2; } a = 1; if 1 { b = 1; } while 1 { c = 1; }', (), []),
+                ('if 1 { give 1; } else if 1 { give 2; a = 1; } else { give 3; } a = 1;', (), []),
+                ('if 1 { give 1; } else { } a = 1;', (), [(1,)]), ('while 1 { give 1; a = 1; } b = 1;', (), [(1,)]),
+                # A give within one block ends that block alone.
+                ('if 1 { a = 1; give 1; b = 1; } else { c = 1; } d = 1;', (), [(0, 0, 0), (0, 1, 0), (1,)]),
+                ('if 1 { a = 1; give a; a = 2; } else { a = 3; }', 'a', []),
+                # What is not come to reads nothing either.
+                ('a = 1; give 1; say a;', 'a', [(0,)])):
+            with self.subTest(body=body, behind=behind):
+                rows = read('def f() { ' + body + ' }')
+                found = []
+                idle_in(rows[0][3], {name: True for name in behind}, (), found)
+                self.assertEqual(found, ways)
+                if behind == ():
+                    self.assertEqual(idle_sets(rows, 'f'), tuple(ways))
+
+    def test_idle_sets_stand_behind_those_found_ahead(self):
+        found = [(9,)]
+        self.assertIsNone(idle_in(read('a = 1; b = 2;'), {'b': True}, (2, 0), found))
+        self.assertEqual(found, [(9,), (2, 0, 0)])
 
     def test_by_hand(self):
         for text, ways in (
